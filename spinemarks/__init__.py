@@ -1,0 +1,1 @@
+"""Spinemarks: marks on the backs of books, their classes, and the orders of two houses."""

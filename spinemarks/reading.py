@@ -1,0 +1,67 @@
+"""Marks read from texts, and the signs with which they go on."""
+
+from spinemarks.errors import NoMark, NoText
+from spinemarks.marks import Mark
+from spinemarks.signs import SMALL
+from spinemarks.states import ALL_SIGNS, START, ending, step
+
+
+def begins(text):
+    """Whether the text begins a mark."""
+    many, _ = _walked(text)
+    return many == len(text)
+
+
+def next_signs(text):
+    """The signs that may go on behind the text, a list, rising."""
+    many, state = _walked(text)
+    if many < len(text):
+        return []
+    return [sign for sign in ALL_SIGNS if step(state, sign) is not None]
+
+
+def read_mark(text):
+    """The mark whose text it is."""
+    many, state = _walked(text)
+    if many < len(text) or ending(state) != "":
+        raise NoMark(many)
+    return _mark_of(text)
+
+
+def goes_on(text):
+    """A mark of as few signs as can be that begins so, or None."""
+    many, state = _walked(text)
+    if many < len(text):
+        return None
+    return _mark_of(text + ending(state))
+
+
+def _walked(text):
+    """How many first signs begin a mark, at most, and the state behind these."""
+    if not isinstance(text, str):
+        raise NoText(text)
+    state = START
+    for at, sign in enumerate(text):
+        following = step(state, sign)
+        if following is None:
+            return (at, state)
+        state = following
+    return (len(text), state)
+
+
+def _mark_of(text):
+    """The mark of a text that is surely one."""
+    head, *words = text.split(" ")
+    letters = head.rstrip(".0123456789")
+    number, _, points = head[len(letters):].partition(".")
+    makers = []
+    year = None
+    copy = None
+    for word in words:
+        if word.startswith("c."):
+            copy = int(word[2:])
+        elif word[0] in SMALL:
+            makers.append(word)
+        else:
+            year = int(word)
+    return Mark(letters, int(number), points, makers, year, copy)

@@ -1,0 +1,45 @@
+"""The signs of which marks are made, and the things that stand as parts of a mark."""
+
+SMALL = "abcdefghijklmnopqrstuvwxyz"
+FIGURES = "0123456789"
+
+
+def is_whole(thing, low, high=None):
+    """Whether the thing is a whole number from low on, up to high where there is one."""
+    if isinstance(thing, bool) or not isinstance(thing, int):
+        return False
+    return low <= thing and (high is None or thing <= high)
+
+
+def is_figures(text):
+    """Whether the text is one of one figure or more."""
+    return text != "" and _all_of(text, FIGURES)
+
+
+def is_letters(thing, most):
+    """Whether the thing is a text of one small letter up to so many."""
+    return isinstance(thing, str) and 1 <= len(thing) <= most and _all_of(thing, SMALL)
+
+
+def is_name(thing):
+    """Whether the thing is a name, a text of one to six small letters."""
+    return is_letters(thing, 6)
+
+
+def is_points(thing):
+    """Whether the thing is points of a mark; a text without signs stands for none."""
+    return isinstance(thing, str) and (thing == "" or _is_ended(thing))
+
+
+def is_maker(thing):
+    """Whether the thing is a maker: a small letter and figures behind it, the last one no 0."""
+    return isinstance(thing, str) and is_letters(thing[:1], 1) and _is_ended(thing[1:])
+
+
+def _all_of(text, signs):
+    # Not by isdigit or islower: these take signs beyond ASCII, too.
+    return all([sign in signs for sign in text])
+
+
+def _is_ended(text):
+    return is_figures(text) and not text.endswith("0")

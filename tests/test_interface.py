@@ -1,0 +1,41 @@
+"""The names, arguments and defaults that the interface lists, each defined in its own file."""
+
+import importlib
+import inspect
+import unittest
+
+FUNCTIONS = {
+    "signs": ("is_whole(thing, low, high=None)", "is_name(thing)", "is_points(thing)", "is_maker(thing)"),
+    "reading": ("begins(text)", "next_signs(text)", "read_mark(text)", "goes_on(text)"),
+}
+METHODS = {
+    ("marks", "Mark"): (
+        "__init__(self, letters, number, points='', makers=None, year=None, copy=None)",
+        "__eq__(self, other)", "__str__(self)", "__repr__(self)", "__len__(self)",
+        "letters(self)", "number(self)", "points(self)", "makers(self)", "year(self)", "copy_number(self)",
+        "parts(self)", "key(self)", "ahead(self, other)", "head(self)", "book(self)",
+        "with_year(self, year=None)", "with_copy(self, copy=None)", "same_book(self, other)",
+    ),
+}
+
+
+class Interface(unittest.TestCase):
+    def test_functions(self):
+        for name, rows in FUNCTIONS.items():
+            module = importlib.import_module(f"spinemarks.{name}")
+            for row in rows:
+                found = getattr(module, row.partition("(")[0])
+                self.assertEqual(found.__name__ + str(inspect.signature(found)), row)
+                self.assertEqual(found.__module__, module.__name__)
+
+    def test_methods(self):
+        for (name, kind), rows in METHODS.items():
+            module = importlib.import_module(f"spinemarks.{name}")
+            self.assertEqual(getattr(module, kind).__module__, module.__name__)
+            for row in rows:
+                found = vars(getattr(module, kind))[row.partition("(")[0]]
+                self.assertEqual(found.__name__ + str(inspect.signature(found)), row)
+
+
+if __name__ == "__main__":
+    unittest.main()
