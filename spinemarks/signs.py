@@ -36,6 +36,11 @@ def is_maker(thing):
     return isinstance(thing, str) and is_letters(thing[:1], 1) and _is_ended(thing[1:])
 
 
+def is_bound(thing):
+    """Whether the thing is a bound of how many signs marks have."""
+    return is_whole(thing, 0, 60)
+
+
 def _all_of(text, signs):
     # Not by isdigit or islower: these take signs beyond ASCII, too.
     return all([sign in signs for sign in text])

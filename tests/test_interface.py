@@ -7,6 +7,12 @@ import unittest
 FUNCTIONS = {
     "signs": ("is_whole(thing, low, high=None)", "is_name(thing)", "is_points(thing)", "is_maker(thing)"),
     "reading": ("begins(text)", "next_signs(text)", "read_mark(text)", "goes_on(text)"),
+    "order": ("order(one, other)", "in_order(marks, falling=False)", "first_wrong(marks)", "joined(one, other)",
+              "place_in(marks, mark)"),
+    "settled": ("turned(one, other, many)", "settles(one, other)"),
+    "filed": ("filed(mark)", "unfiled(text)"),
+    "counts": ("how_many(many)", "with_signs(many)"),
+    "numbering": ("ahead_of(mark, many)", "number_of(mark, many)", "mark_at(number, many)"),
 }
 METHODS = {
     ("marks", "Mark"): (
