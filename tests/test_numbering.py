@@ -67,7 +67,7 @@ class AheadOf(Case):
         # Each of these stands straight behind the shorter one, where longer ones don't count.
         for one, other, bound in (
             ("q1.5", "q1.50000000001", 5), ("q1 k5", "q1 k5000000001", 6), ("q1 c.99", "q1 c.100", 7),
-            ("q1 1998 c.99", "q1 1998 c.100", 12), ("q1.5 k5 1998 c.9", "q1.5 k5 1998 c.10", 16),
+            ("q1 1998 c.99", "q1 1998 c.12345", 12), ("q1.5 k5 1998 c.9", "q1.5 k5 1998 c.1000", 16),
             ("q1 c.99", "q1 c." + "9" * 200, 7), ("q1", "q1." + "0" * 230 + "1", 2), ("q1", "q1 k5 w6 y7 1998 c.2", 2),
         ):
             self.assertEqual(ahead_of(mark_of(other), bound), ahead_of(mark_of(one), bound) + 1, (one, other))
