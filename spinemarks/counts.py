@@ -9,7 +9,7 @@ def how_many(many):
     """How many marks have at most so many signs."""
     if not is_bound(many):
         raise NoBound(many)
-    return Tails(many).total
+    return Tails(many).marks(many)
 
 
 def with_signs(many):

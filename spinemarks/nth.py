@@ -5,13 +5,13 @@ from spinemarks.signs import SMALL
 from spinemarks.tails import counted
 
 
-def nth_mark(tails, number):
-    """The mark that has this number, from 0 on and less than the total of the tails.
+def nth_mark(tails, number, most):
+    """The mark that has this number, from 0 on, among all of at most so many signs, where there is one.
 
     Part by part is found. What is left of the number then is the number of the mark among those
     that are alike in the parts ahead, with what is left of the signs.
     """
-    letters, number, left = _letters_at(tails, number, tails.most)
+    letters, number, left = _letters_at(tails, number, most)
     whole, number, left = _number_at(tails, number, left)
     points, number, left = _points_at(tails, number, left)
     makers, number, left = _makers_at(tails, number, left)

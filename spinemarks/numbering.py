@@ -11,7 +11,7 @@ def ahead_of(mark, many):
     """How many marks of at most so many signs are ahead of the mark."""
     if not is_bound(many):
         raise NoBound(many)
-    return rank(Tails(many), mark)
+    return rank(Tails(many), mark, many)
 
 
 def number_of(mark, many):
@@ -29,6 +29,6 @@ def mark_at(number, many):
     if not is_bound(many):
         raise NoBound(many)
     tails = Tails(many)
-    if number >= tails.total:
+    if number >= tails.marks(many):
         raise NoNumber(number)
-    return nth_mark(tails, number)
+    return nth_mark(tails, number, many)

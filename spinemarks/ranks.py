@@ -4,10 +4,10 @@ from spinemarks.signs import SMALL
 from spinemarks.tails import counted
 
 
-def rank(tails, mark):
-    """How many marks of at most as many signs as the tails are for are ahead of the mark."""
+def rank(tails, mark, most):
+    """How many marks of at most so many signs, no more than the tails are for, are ahead of the mark."""
     letters, number, points, makers, year, copy = mark.parts()
-    left = tails.most
+    left = most
     ahead = _ahead_by_letters(tails, letters, left)
     left -= len(letters)
     ahead += _ahead_by_number(tails, number, left)

@@ -22,10 +22,18 @@ def next_signs(text):
 
 def read_mark(text):
     """The mark whose text it is."""
+    mark, many = mark_and_signs(text)
+    if mark is None:
+        raise NoMark(many)
+    return mark
+
+
+def mark_and_signs(text):
+    """The mark whose text it is, or None, and how many first signs begin a mark, at most."""
     many, state = _walked(text)
     if many < len(text) or ending(state) != "":
-        raise NoMark(many)
-    return _mark_of(text)
+        return (None, many)
+    return (_mark_of(text), many)
 
 
 def goes_on(text):

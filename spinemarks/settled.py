@@ -4,7 +4,7 @@ from spinemarks.errors import Alike, NoNumber
 from spinemarks.marks import PARTS
 from spinemarks.order import order
 from spinemarks.reading import goes_on, next_signs
-from spinemarks.signs import is_whole
+from spinemarks.signs import common_signs, is_whole
 
 
 def turned(one, other, many):
@@ -15,7 +15,7 @@ def turned(one, other, many):
         raise Alike(one)
     if many >= _settling(one, other):
         return None
-    if many <= _common(one, other):
+    if many <= common_signs(str(one), str(other)):
         return (other, one)
     way = order(other, one)
     marks = _near(str(other)[:many])
@@ -37,16 +37,6 @@ def _first_unlike(one, other):
     return unlike[0]
 
 
-def _common(one, other):
-    """How many first signs the two marks have in common."""
-    many = 0
-    for first, second in zip(str(one), str(other)):
-        if first != second:
-            return many
-        many += 1
-    return many
-
-
 def _settling(one, other):
     """How many first signs settle the order of two unlike marks, as few as can be."""
     part = _first_unlike(one, other)
@@ -57,7 +47,7 @@ def _settling(one, other):
     if part == "copy":
         # A copy may have any figures more, so one of the marks must have ended.
         return min(len(one), len(other)) + 1
-    many = _common(one, other) + 1
+    many = common_signs(str(one), str(other)) + 1
     return many + 1 if _is_open_c(one, other, part) else many
 
 
@@ -65,7 +55,7 @@ def _is_open_c(one, other, part):
     """Whether a c, where the marks part, leaves the order open: it may be a maker's or a copy's."""
     if part != "makers" and (part != "year" or len(one.makers()) == 3):
         return False
-    at = _common(one, other)
+    at = common_signs(str(one), str(other))
     # Ahead of a maker of a letter behind c the c is in both cases.
     return max(str(one)[at:at + 1], str(other)[at:at + 1]) == "c"
 

@@ -41,6 +41,16 @@ def is_bound(thing):
     return is_whole(thing, 0, 60)
 
 
+def common_signs(one, other):
+    """How many first signs two texts have in common."""
+    many = 0
+    for first, second in zip(one, other):
+        if first != second:
+            return many
+        many += 1
+    return many
+
+
 def _all_of(text, signs):
     # Not by isdigit or islower: these take signs beyond ASCII, too.
     return all([sign in signs for sign in text])

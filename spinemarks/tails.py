@@ -33,7 +33,10 @@ class Tails:
         # By how many letters are read; ahead of the first one none may end.
         self.in_letters = [_with_more([0] * (most + 1), 26, one, 1), one, two, numbers]
         self.behind_letters = numbers
-        self.total = self.in_letters[0][most]
+
+    def marks(self, most):
+        """How many marks have at most so many signs."""
+        return self.in_letters[0][most]
 
 
 def _copies(most):

@@ -1,5 +1,6 @@
 """What the tests hold the program against: the document's words once more, written in another way."""
 
+import bisect
 import functools
 import itertools
 import re
@@ -138,3 +139,72 @@ def marred(text, signs):
             found.append(text[:at] + text[at + 1:])
             found.append(text[:at] + text[at:at + 2][::-1] + text[at + 2:])
     return found
+
+
+def figure_texts(most):
+    """All texts of one figure up to so many of which the last is no 0."""
+    found = []
+    for many in range(1, most + 1):
+        found += ["".join(signs) for signs in itertools.product("0123456789", repeat=many) if signs[-1] != "0"]
+    return found
+
+
+def behind_heads(heads, most):
+    """The heads, and all texts of at most so many signs of marks that have one of them."""
+    found = list(heads)
+    shortest = min([len(head) for head in heads], default=most)
+    makers = [" " + letter + text for letter in SIGNS[12:] for text in figure_texts(most - shortest - 2)]
+    last = found
+    for _ in range(3):
+        last = [text + maker for text in last for maker in makers if len(text) + len(maker) <= most]
+        found = found + last
+    found += [f"{text} {year}" for text in found if len(text) + 5 <= most for year in range(1000, 3000)]
+    return found + [f"{text} c.{copy}" for text in found for copy in range(2, 10 ** max(0, most - len(text) - 3))]
+
+
+def texts_of(head, most):
+    """All texts of at most so many signs of marks with the letters and the number of a head without points."""
+    heads = [head] + [f"{head}.{points}" for points in figure_texts(most - len(head) - 1)]
+    return behind_heads(heads, most)
+
+
+class Shelf:
+    """Texts of marks in their order, in which stretches are looked up."""
+
+    key = staticmethod(functools.cmp_to_key(compared))
+
+    def __init__(self, texts):
+        self.texts = put_in_order(texts)
+        self.keys = [self.key(text) for text in self.texts]
+
+    def stretch(self, low=None, high=None, with_low=False, with_high=False):
+        """The texts that lie in the stretch of the texts of two marks."""
+        start = 0
+        end = len(self.texts)
+        if low is not None:
+            start = (bisect.bisect_left if with_low else bisect.bisect_right)(self.keys, self.key(low))
+        if high is not None:
+            end = (bisect.bisect_right if with_high else bisect.bisect_left)(self.keys, self.key(high))
+        return self.texts[start:end]
+
+
+def mark_or_none(text):
+    return None if text is None else mark_of(text)
+
+
+def texts_told(marks):
+    """The texts of a list of marks that was told."""
+    assert type(marks) is list and all(isinstance(mark, Mark) for mark in marks)
+    return [str(mark) for mark in marks]
+
+
+def slip_between(text, other):
+    """The kind of the slip that leads from one text to another, or None, by trying all places."""
+    if len(text) == len(other):
+        if sum(one != second for one, second in zip(text, other)) == 1:
+            return "other"
+        turned = [text[:at] + text[at + 1] + text[at] + text[at + 2:] for at in range(len(text) - 1)]
+        return "turned" if text != other and other in turned else None
+    if other in [text[:at] + text[at + 1:] for at in range(len(text))]:
+        return "lost"
+    return "extra" if text in [other[:at] + other[at + 1:] for at in range(len(other))] else None

@@ -13,6 +13,21 @@ FUNCTIONS = {
     "filed": ("filed(mark)", "unfiled(text)"),
     "counts": ("how_many(many)", "with_signs(many)"),
     "numbering": ("ahead_of(mark, many)", "number_of(mark, many)", "mark_at(number, many)"),
+    "between": (
+        "room(low=None, high=None, with_low=False, with_high=False)",
+        "shortest(low=None, high=None, with_low=False, with_high=False)",
+    ),
+    "spread": (
+        "many_between(many, low=None, high=None, with_low=False, with_high=False)",
+        "spread(many, low=None, high=None, with_low=False, with_high=False)",
+        "next_of(mark, many)", "last_before(mark, many)",
+    ),
+    "slips": (
+        "slip_kind(mark, text)", "slipped(mark, kind, at, sign='')",
+        "could_be(text, low=None, high=None, kind='other')",
+    ),
+    "wrong": ("bars(texts)", "row_slips(texts, kind='other')", "standing(texts)"),
+    "short": ("cuts_of(mark)",),
 }
 METHODS = {
     ("marks", "Mark"): (
@@ -21,6 +36,10 @@ METHODS = {
         "letters(self)", "number(self)", "points(self)", "makers(self)", "year(self)", "copy_number(self)",
         "parts(self)", "key(self)", "ahead(self, other)", "head(self)", "book(self)",
         "with_year(self, year=None)", "with_copy(self, copy=None)", "same_book(self, other)",
+    ),
+    ("short", "Shorts"): (
+        "__init__(self, marks)", "__len__(self)", "marks(self)", "row(self)", "signs(self)", "short_of(self, mark)",
+        "meant(self, text)", "put(self, mark)", "take(self, mark)", "paper(self)",
     ),
 }
 
