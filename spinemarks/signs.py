@@ -4,11 +4,14 @@ SMALL = "abcdefghijklmnopqrstuvwxyz"
 FIGURES = "0123456789"
 
 
+def is_number(thing):
+    """Whether the thing is a whole number."""
+    return isinstance(thing, int) and not isinstance(thing, bool)
+
+
 def is_whole(thing, low, high=None):
     """Whether the thing is a whole number from low on, up to high where there is one."""
-    if isinstance(thing, bool) or not isinstance(thing, int):
-        return False
-    return low <= thing and (high is None or thing <= high)
+    return is_number(thing) and low <= thing and (high is None or thing <= high)
 
 
 def is_figures(text):

@@ -28,6 +28,12 @@ FUNCTIONS = {
     ),
     "wrong": ("bars(texts)", "row_slips(texts, kind='other')", "standing(texts)"),
     "short": ("cuts_of(mark)",),
+    "shortpaper": ("shows_short(marks, many, paper)",),
+    "heads": ("head_of(text)", "behind_head(text)", "least_head(text)"),
+    "concord": (
+        "against(one, name, other, second)", "related(one, name, other, second)", "stretches(one, other)",
+        "classed_apart(one, other)",
+    ),
 }
 METHODS = {
     ("marks", "Mark"): (
@@ -40,6 +46,11 @@ METHODS = {
     ("short", "Shorts"): (
         "__init__(self, marks)", "__len__(self)", "marks(self)", "row(self)", "signs(self)", "short_of(self, mark)",
         "meant(self, text)", "put(self, mark)", "take(self, mark)", "paper(self)",
+    ),
+    ("classes", "Scheme"): (
+        "__init__(self, rows)", "__eq__(self, other)", "__len__(self)", "names(self)", "rows(self)", "span(self, name)",
+        "plain(self, name)", "holds(self, name, mark)", "chain(self, mark)", "narrowest(self, mark)",
+        "around(self, name)", "inside(self, name=None)",
     ),
 }
 
