@@ -2,8 +2,12 @@
 
 from spinemarks.errors import NoMark, NoText
 from spinemarks.marks import Mark
-from spinemarks.signs import SMALL
-from spinemarks.states import ALL_SIGNS, START, ending, step
+from spinemarks.signs import FIGURES, SMALL
+from spinemarks.states import ALL_SIGNS, ENDLESS, START, STEPS, ending, step
+
+# A text that begins a mark has more signs only where many figures stand in a row. To read such a
+# row sign by sign takes long, but in shorter texts it takes longer to look for its end.
+MOST_WITHOUT_RUNS = 40
 
 
 def begins(text):
@@ -48,13 +52,25 @@ def _walked(text):
     """How many first signs begin a mark, at most, and the state behind these."""
     if not isinstance(text, str):
         raise NoText(text)
-    state = START
-    for at, sign in enumerate(text):
-        following = step(state, sign)
+    has_runs = len(text) > MOST_WITHOUT_RUNS
+    place, many = START
+    at = 0
+    while at < len(text):
+        if has_runs and place in ENDLESS:
+            at = _last_figure(text, at)
+        action = STEPS[place]
+        following = action(many, text[at])
         if following is None:
-            return (at, state)
-        state = following
-    return (len(text), state)
+            return (at, (place, many))
+        place, many = following
+        at += 1
+    return (at, (place, many))
+
+
+def _last_figure(text, at):
+    """The place of the last one of the figures that stand from this place on, or the place itself."""
+    rest = text[at:]
+    return at + max(0, len(rest) - len(rest.lstrip(FIGURES)) - 1)
 
 
 def _mark_of(text):

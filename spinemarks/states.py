@@ -6,7 +6,8 @@ A state is a tuple of a place, as a word, and a number, which says:
 - blank, c: a blank, perhaps a c, is read behind so many makers, and behind a year where it is 4.
 - letter: behind so many makers a letter is read, and perhaps figures of which the last is 0.
 - maker: so many makers are read, of the last one a figure that is no 0 is the last sign.
-- copy: 0 where no figure is read, 1 where a 1 alone is, which is no copy, else 2.
+- copy: 0 where no figure of a copy is read, 1 where a 1 alone is, which is no copy yet.
+- copied: the figures of a copy are read.
 """
 
 from spinemarks.signs import FIGURES, SMALL
@@ -16,7 +17,9 @@ START = ("letters", 0)
 ALL_SIGNS = " .0123456789abcdefghijklmnopqrstuvwxyz"
 MOST_MAKERS = 3
 BEHIND_YEAR = 4
-COPY_ENDS = ("2", "0", "")
+COPY_ENDS = ("2", "0")
+# Where any figures may follow, and the last one of them alone makes the state behind them.
+ENDLESS = {"point": True, "points": True, "letter": True, "maker": True, "copied": True}
 
 
 def step(state, sign):
@@ -98,9 +101,15 @@ def _behind_year(many, sign):
 
 
 def _behind_copy(many, sign):
+    if many == 0 and sign == "1":
+        return ("copy", 1)
     if many == 0:
-        return ("copy", 1 if sign == "1" else 2) if _is_first(sign) else None
-    return ("copy", 2) if sign in FIGURES else None
+        return ("copied", 0) if _is_first(sign) else None
+    return _behind_copied(many, sign)
+
+
+def _behind_copied(_, sign):
+    return ("copied", 0) if sign in FIGURES else None
 
 
 def _is_first(sign):
@@ -118,4 +127,5 @@ STEPS = {
     "maker": _behind_maker,
     "year": _behind_year,
     "copy": _behind_copy,
+    "copied": _behind_copied,
 }

@@ -57,8 +57,8 @@ def begins_mark(text):
 
 
 def first_signs(text):
-    """How many first signs of the text begin a mark, at most."""
-    return max(many for many in range(len(text) + 1) if begins_mark(text[:many]))
+    """How many first signs of the text begin a mark, at most; each beginning of these does, too."""
+    return bisect.bisect_left(range(1, len(text) + 1), True, key=lambda many: not begins_mark(text[:many]))
 
 
 def parts_of(text):

@@ -193,6 +193,42 @@ class GoesOn(Case):
             self.assertIsNone(goes_on(text), text)
 
 
+class ManyFigures(Case):
+    """Texts in which many figures stand in a row, marred at each place."""
+
+    TEXTS = (
+        "abc9999." + "1" * 40 + " a" + "1" * 40 + " b" + "1" * 40 + " c" + "1" * 40 + " 2999 c." + "9" * 30,
+        "q1.05 c" + "0" * 30 + "5 1998 c.1" + "0" * 20, "q1 c.1" + "0" * 60, "a1." + "10" * 30 + "1 c5 c.15",
+    )
+
+    def test_each_beginning(self):
+        for text in self.TEXTS:
+            for beginning in beginnings(text):
+                self.assertIs(begins(beginning), True, beginning)
+                self.assertEqual(next_signs(beginning), [sign for sign in SIGNS if begins_mark(beginning + sign)])
+                self.assertTrue(str(goes_on(beginning)).startswith(beginning))
+
+    def test_marred_at_each_place(self):
+        for text in self.TEXTS:
+            for at, other in enumerate(sorted(set(marred(text, " .0c\u0665")))):
+                many = first_signs(other)
+                self.assertIs(begins(other), many == len(other), other)
+                if at % 20 == 0:
+                    self.assertEqual(next_signs(other), [sign for sign in SIGNS if begins_mark(other + sign)])
+                if is_mark(other):
+                    self.assertEqual(read_mark(other).parts(), parts_of(other))
+                else:
+                    self.refuses(NoMark, many, read_mark, other)
+
+    def test_figures_where_not_any_may_follow(self):
+        for text, many in (
+            ("q" + "1" * 60, 5), ("1" * 60, 0), ("q1 " + "1" * 60, 7), ("q1 c." + "0" * 60, 5), ("q1 k5 c.0" + "1" * 60, 8),
+            ("q1 k5 w6 y7 " + "5" * 60, 12), ("q1 1998 c" + "5" * 60, 9), ("q1 a1 a1 a1 c" + "5" * 60, 13),
+        ):
+            self.refuses(NoMark, many, read_mark, text)
+            self.assertEqual(first_signs(text), many)
+
+
 class NoTexts(Case):
     def test_all_four_questions(self):
         for thing in NO_TEXTS:
