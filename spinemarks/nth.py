@@ -22,12 +22,13 @@ def nth_mark(tails, number, most):
 
 def _letters_at(tails, number, left):
     letters = ""
-    while letters == "" or number >= counted(tails.behind_letters, left):
-        if letters != "":
-            number -= counted(tails.behind_letters, left)
+    ended = 0
+    while number >= ended:
+        number -= ended
         left -= 1
-        letter, number = divmod(number, counted(tails.in_letters[len(letters) + 1], left))
+        letter, number = divmod(number, tails.in_letters(len(letters) + 1, left))
         letters += SMALL[letter]
+        ended = tails.behind_letters(left)
     return (letters, number, left)
 
 

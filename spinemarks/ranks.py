@@ -30,9 +30,9 @@ def _ahead_by_letters(tails, letters, left):
     for at, letter in enumerate(letters):
         if at > 0:
             # The letters may end here.
-            ahead += counted(tails.behind_letters, left)
+            ahead += tails.behind_letters(left)
         left -= 1
-        ahead += SMALL.index(letter) * counted(tails.in_letters[at + 1], left)
+        ahead += SMALL.index(letter) * tails.in_letters(at + 1, left)
     return ahead
 
 

@@ -15,6 +15,7 @@ from spinemarks.signs import FIGURES, SMALL
 START = ("letters", 0)
 # The signs that stand in marks, as Python compares texts.
 ALL_SIGNS = " .0123456789abcdefghijklmnopqrstuvwxyz"
+MOST_LETTERS = 3
 MOST_MAKERS = 3
 BEHIND_YEAR = 4
 COPY_ENDS = ("2", "0")
@@ -46,7 +47,7 @@ def ending(state):
 
 
 def _behind_letters(many, sign):
-    if sign in SMALL and many < 3:
+    if sign in SMALL and many < MOST_LETTERS:
         return ("letters", many + 1)
     return ("number", 1) if _is_first(sign) and many > 0 else None
 

@@ -1,10 +1,11 @@
 """How many ways there are to go on with a mark behind each of its parts.
 
 Each table is a list: for each number of signs that are left, from 0 on, it has the number of
-ways to go on from there to the end of a mark with at most so many signs.
+ways to go on from there to the end of a mark with at most so many signs. Of letters, which are
+few, just the numbers of ways that are asked for are worked out.
 """
 
-from spinemarks.states import MOST_MAKERS
+from spinemarks.states import MOST_LETTERS, MOST_MAKERS
 
 
 def counted(table, left):
@@ -27,43 +28,45 @@ class Tails:
             self.behind_makers.insert(0, _with_more(years, 26, self.in_maker[0], 2))
         self.in_points = _figures(self.behind_makers[0])
         self.behind_number = _with_more(self.behind_makers[0], 1, self.in_points, 1)
-        numbers = [_numbers(self.behind_number, left) for left in range(most + 1)]
-        two = _with_more(numbers, 26, numbers, 1)
-        one = _with_more(numbers, 26, two, 1)
-        # By how many letters are read; ahead of the first one none may end.
-        self.in_letters = [_with_more([0] * (most + 1), 26, one, 1), one, two, numbers]
-        self.behind_letters = numbers
+
+    def behind_letters(self, left):
+        """How many ways there are behind the last letter, which a number of one to four figures follows."""
+        return sum([9 * 10 ** more * counted(self.behind_number, left - 1 - more) for more in range(4)])
+
+    def in_letters(self, many, left):
+        """How many ways there are behind so many letters, where more may follow."""
+        ways = self.behind_letters(left) if many > 0 else 0
+        if many < MOST_LETTERS:
+            return ways + 26 * self.in_letters(many + 1, left - 1)
+        return ways
 
     def marks(self, most):
         """How many marks have at most so many signs."""
-        return self.in_letters[0][most]
+        return self.in_letters(0, most)
 
 
 def _copies(most):
     """No copy, or one: a blank, `c.` and the figures of a number from 2 on."""
     table = []
-    power = 1
+    ways = 0
     for left in range(most + 1):
         if left > 3:
-            power *= 10
-        # 0 and 1 are numbers of few enough figures, too, but no copies.
-        table.append(power - 1 if left > 3 else 1)
+            # As many as numbers from 1 on: 1 itself is no copy, but there may be none.
+            ways = 10 * ways + 9
+        table.append(ways or 1)
     return table
 
 
 def _with_more(ended, choices, more, signs):
     """To go on where a part has ended, or by one of the choices, of so many signs, and then as in more."""
-    return [ended[left] + choices * counted(more, left - signs) for left in range(len(ended))]
+    return [ways + choices * later for ways, later in zip(ended, [0] * signs + more)]
 
 
 def _figures(rest):
     """One figure or more, the last one no 0, and then the rest."""
-    table = []
-    for left in range(len(rest)):
-        table.append(9 * counted(rest, left - 1) + 10 * counted(table, left - 1))
+    table = [0]
+    more = 0
+    for ways in rest[:-1]:
+        more = 9 * ways + 10 * more
+        table.append(more)
     return table
-
-
-def _numbers(rest, left):
-    """A number of one to four figures, and then the rest, in so many signs."""
-    return sum([9 * 10 ** more * counted(rest, left - 1 - more) for more in range(4)])
