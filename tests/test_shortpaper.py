@@ -52,6 +52,7 @@ def papers_with_one_thing_otherwise(paper):
         yield [*rest[0], dict(reversed(list(needed.items()))), *rest[1]]
         for text, number in needed.items():
             yield [*rest[0], {other: many for other, many in needed.items() if other != text}, *rest[1]]
+            yield [*rest[0], {other + " " if other == text else other: needed[other] for other in needed}, *rest[1]]
             others = [None, True, False, "5", "", [5], (5,), mark_of("q1"), 0, -1, 10 ** 29, -10 ** 29]
             if number is not None:
                 others += [number - 1, number + 1]

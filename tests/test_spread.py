@@ -156,6 +156,8 @@ class Spread(Case):
             ("q1", "q1", (True, False), 0), ("q1", "q1", (), 0), ("q2", "q1", (True, True), 0), ("q1", "q1 c.2", (), 0),
             ("q1", "q1 c.2", (True, False), 1), ("q1", "q1 c.2", (True, True), 2), ("q1 c.5", "q1 c.24", (), 18),
             ("q1 c.5", "q1 c.24", (True, False), 19), ("q1 c.5", "q1 c.24", (True, True), 20),
+            ("q1", "q1 c.22", (), 20), ("q1", "q1 c.21", (), 19), ("q1", "q1 c.21", (True, True), 21),
+            ("q1 c.9", "q1 c.30", (), 20), (None, "a1 c.20", (False, True), 20), (None, "a1 c.20", (), 19),
         ):
             one, other = mark_or_none(low), mark_or_none(high)
             for many in range(1, 21):
