@@ -34,6 +34,10 @@ FUNCTIONS = {
         "against(one, name, other, second)", "related(one, name, other, second)", "stretches(one, other)",
         "classed_apart(one, other)",
     ),
+    "ways": ("ways(part)",),
+    "rules": ("first_rule()",),
+    "parted": ("alike(one, other)", "parted(one, other)"),
+    "houserule": ("rule_for(marks)", "shows_none(marks, thing)"),
 }
 METHODS = {
     ("marks", "Mark"): (
@@ -51,6 +55,14 @@ METHODS = {
         "__init__(self, rows)", "__eq__(self, other)", "__len__(self)", "names(self)", "rows(self)", "span(self, name)",
         "plain(self, name)", "holds(self, name, mark)", "chain(self, mark)", "narrowest(self, mark)",
         "around(self, name)", "inside(self, name=None)",
+    ),
+    ("rules", "Rule"): (
+        "__init__(self, steps)", "__eq__(self, other)", "__len__(self)", "steps(self)", "order(self, one, other)",
+        "in_order(self, marks)", "key_of(self)",
+    ),
+    ("shelves", "Shelves"): (
+        "__init__(self, sizes, rows=None)", "__eq__(self, other)", "__len__(self)", "sizes(self)", "rows(self)",
+        "twin(self)", "put(self, mark)", "take(self, mark)", "shelf_with(self, mark)", "grown(self, size)",
     ),
 }
 
