@@ -44,6 +44,13 @@ def is_bound(thing):
     return is_whole(thing, 0, 60)
 
 
+def written_number(text):
+    """The number that the text writes by its figures, without a 0 ahead but for 0 itself, or None."""
+    if not is_figures(text) or (text.startswith("0") and text != "0"):
+        return None
+    return int(text)
+
+
 def common_signs(one, other):
     """How many first signs two texts have in common."""
     many = 0

@@ -38,6 +38,16 @@ FUNCTIONS = {
     "rules": ("first_rule()",),
     "parted": ("alike(one, other)", "parted(one, other)"),
     "houserule": ("rule_for(marks)", "shows_none(marks, thing)"),
+    "borders": ("border(shelves, number)", "borders(shelves)", "sought(shelves, mark)"),
+    "rowtexts": (
+        "rows_of(text)", "whole_text(rows)", "marks_text(marks)", "read_marks(text)", "packed_text(marks)",
+        "read_packed(text)",
+    ),
+    "ruletexts": (
+        "rule_text(rule)", "read_rule(text)", "scheme_text(scheme)", "read_scheme(text)", "outline(scheme)",
+        "read_outline(text)",
+    ),
+    "housetexts": ("house_text(shelves, rule, scheme)", "read_house(text)"),
 }
 METHODS = {
     ("marks", "Mark"): (
@@ -64,6 +74,7 @@ METHODS = {
         "__init__(self, sizes, rows=None)", "__eq__(self, other)", "__len__(self)", "sizes(self)", "rows(self)",
         "twin(self)", "put(self, mark)", "take(self, mark)", "shelf_with(self, mark)", "grown(self, size)",
     ),
+    ("desk", "Desk"): ("__init__(self)", "say(self, line)"),
 }
 
 
