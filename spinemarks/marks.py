@@ -98,6 +98,12 @@ class Mark:
         return self.book() == other.book()
 
 
+def mark_of_key(key):
+    """The mark that has this key."""
+    letters, number, points, makers, year, copy = key
+    return Mark(letters, number, points, makers, year or None, copy or None)
+
+
 def _kept_makers(makers):
     if makers is None:
         return ()

@@ -1,8 +1,8 @@
 """Marks read from texts, and the signs with which they go on."""
 
 from spinemarks.errors import NoMark, NoText
-from spinemarks.marks import Mark
-from spinemarks.signs import FIGURES, SMALL
+from spinemarks.marks import mark_of_key
+from spinemarks.signs import FIGURES
 from spinemarks.states import ALL_SIGNS, ENDLESS, START, STEPS, ending, step
 
 # A text that begins a mark has more signs only where many figures stand in a row. To read such a
@@ -37,7 +37,7 @@ def mark_and_signs(text):
     many, state = _walked(text)
     if many < len(text) or ending(state) != "":
         return (None, many)
-    return (_mark_of(text), many)
+    return (mark_of_key(key_written(text)), many)
 
 
 def goes_on(text):
@@ -45,7 +45,25 @@ def goes_on(text):
     many, state = _walked(text)
     if many < len(text):
         return None
-    return _mark_of(text + ending(state))
+    return mark_of_key(key_written(text + ending(state)))
+
+
+def key_written(text):
+    """The key of the mark of a text that is surely one."""
+    head, *words = text.split(" ")
+    head, _, points = head.partition(".")
+    letters = head.rstrip(FIGURES)
+    makers = []
+    year = 0
+    copy = 0
+    for word in words:
+        if word[0] in FIGURES:
+            year = int(word)
+        elif word[1] == ".":
+            copy = int(word[2:])
+        else:
+            makers.append(word)
+    return (letters, int(head[len(letters):]), points, tuple(makers), year, copy)
 
 
 def _walked(text):
@@ -71,21 +89,3 @@ def _last_figure(text, at):
     """The place of the last one of the figures that stand from this place on, or the place itself."""
     rest = text[at:]
     return at + max(0, len(rest) - len(rest.lstrip(FIGURES)) - 1)
-
-
-def _mark_of(text):
-    """The mark of a text that is surely one."""
-    head, *words = text.split(" ")
-    letters = head.rstrip(".0123456789")
-    number, _, points = head[len(letters):].partition(".")
-    makers = []
-    year = None
-    copy = None
-    for word in words:
-        if word.startswith("c."):
-            copy = int(word[2:])
-        elif word[0] in SMALL:
-            makers.append(word)
-        else:
-            year = int(word)
-    return Mark(letters, int(number), points, makers, year, copy)

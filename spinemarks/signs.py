@@ -16,12 +16,13 @@ def is_whole(thing, low, high=None):
 
 def is_figures(text):
     """Whether the text is one of one figure or more."""
-    return text != "" and _all_of(text, FIGURES)
+    # A text of figures may have such beyond ASCII, which are none here; so it is with letters.
+    return text.isascii() and text.isdigit()
 
 
 def is_letters(thing, most):
     """Whether the thing is a text of one small letter up to so many."""
-    return isinstance(thing, str) and 1 <= len(thing) <= most and _all_of(thing, SMALL)
+    return isinstance(thing, str) and len(thing) <= most and thing.isascii() and thing.isalpha() and thing.islower()
 
 
 def is_name(thing):
@@ -36,7 +37,7 @@ def is_points(thing):
 
 def is_maker(thing):
     """Whether the thing is a maker: a small letter and figures behind it, the last one no 0."""
-    return isinstance(thing, str) and is_letters(thing[:1], 1) and _is_ended(thing[1:])
+    return isinstance(thing, str) and len(thing) > 1 and thing[0] in SMALL and _is_ended(thing[1:])
 
 
 def is_bound(thing):
@@ -61,10 +62,5 @@ def common_signs(one, other):
     return many
 
 
-def _all_of(text, signs):
-    # Not by isdigit or islower: these take signs beyond ASCII, too.
-    return all([sign in signs for sign in text])
-
-
 def _is_ended(text):
-    return is_figures(text) and not text.endswith("0")
+    return is_figures(text) and text[-1] != "0"

@@ -1,16 +1,15 @@
 """Slips: one sign of a mark's text is other, lost or extra, or two neighbours are turned."""
 
 from spinemarks.errors import NoKind, NoPlace, NoText, TooLong
-from spinemarks.order import in_order
-from spinemarks.reading import mark_and_signs, next_signs
+from spinemarks.marks import mark_of_key
+from spinemarks.mends import Mends
+from spinemarks.reading import key_written
 from spinemarks.signs import common_signs, is_whole
 
 KINDS = ("other", "lost", "extra", "turned")
 MOST_SIGNS = 40
 # The last place of a slip is so many ahead of the end of the text.
 AHEAD_OF_END = {"other": 1, "lost": 1, "extra": 0, "turned": 2}
-# The kind of slip that leads back.
-BACK = {"other": "other", "lost": "extra", "extra": "lost", "turned": "turned"}
 
 
 def slip_kind(mark, text):
@@ -53,11 +52,13 @@ def could_be(text, low=None, high=None, kind="other"):
         raise TooLong(text)
     if kind is not None:
         check_kind(kind)
-    sources = []
+    mends = Mends(text)
+    texts = []
     for word in KINDS if kind is None else (kind,):
-        sources += _sources(text, word)
-    read = [mark_and_signs(source) for source in sorted(set(sources))]
-    return in_order([mark for mark, _ in read if mark is not None and _is_between(mark, low, high)])
+        texts += mends.texts(word)
+    # By their keys, since of most texts no mark need be made where the neighbours are near.
+    keys = _between([key_written(source) for source in sorted(set(texts))], low, high)
+    return [mark_of_key(key) for key in sorted(keys)]
 
 
 def check_kind(kind):
@@ -80,17 +81,12 @@ def _slipped(text, kind, at, sign):
     return text[:at] + text[at:at + 2][::-1] + text[at + 2:]
 
 
-def _sources(text, kind):
-    """All marks' texts, and some that are none, of which the text comes by one slip of the kind."""
-    back = BACK[kind]
-    # The signs ahead of the slip stay as they are, so no mark's text has it behind the first wrong sign.
-    _, begun = mark_and_signs(text)
-    found = []
-    for at in range(min(begun, len(text) - AHEAD_OF_END[back]) + 1):
-        signs = next_signs(text[:at]) if _takes_sign(back) else [""]
-        found += [_slipped(text, back, at, sign) for sign in signs]
-    return [source for source in found if source != text]
-
-
-def _is_between(mark, low, high):
-    return (low is None or low.ahead(mark)) and (high is None or mark.ahead(high))
+def _between(keys, low, high):
+    """The keys of marks behind low and ahead of high, where there is one."""
+    if low is not None:
+        least = low.key()
+        keys = [key for key in keys if key > least]
+    if high is not None:
+        most = high.key()
+        keys = [key for key in keys if key < most]
+    return keys

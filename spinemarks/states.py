@@ -15,6 +15,8 @@ from spinemarks.signs import FIGURES, SMALL
 START = ("letters", 0)
 # The signs that stand in marks, as Python compares texts.
 ALL_SIGNS = " .0123456789abcdefghijklmnopqrstuvwxyz"
+# The same signs; those that stand together make the same of each state.
+ALIKE_SIGNS = (" ", ".", "0", "1", "2", "3456789", "c", "abdefghijklmnopqrstuvwxyz")
 MOST_LETTERS = 3
 MOST_MAKERS = 3
 BEHIND_YEAR = 4
