@@ -95,7 +95,7 @@ class Mark:
 
     def same_book(self, other):
         """Whether it and the other mark are alike but for their copies."""
-        return self.book() == other.book()
+        return self._parts[:5] == other._parts[:5]
 
 
 def mark_of_key(key):

@@ -1,12 +1,17 @@
 """The mark of a number among all marks of at most so many signs, in their order."""
 
-from spinemarks.marks import Mark
-from spinemarks.signs import SMALL
-from spinemarks.tails import counted
+from spinemarks.marks import mark_of_key
+from spinemarks.signs import FIGURES, SMALL
+from spinemarks.tails import LAST_FIGURES, counted
 
 
 def nth_mark(tails, number, most):
-    """The mark that has this number, from 0 on, among all of at most so many signs, where there is one.
+    """The mark that has this number, from 0 on, among all of at most so many signs, where there is one."""
+    return mark_of_key(nth_key(tails, number, most))
+
+
+def nth_key(tails, number, most):
+    """The key of the mark that has this number.
 
     Part by part is found. What is left of the number then is the number of the mark among those
     that are alike in the parts ahead, with what is left of the signs.
@@ -16,8 +21,9 @@ def nth_mark(tails, number, most):
     points, number, left = _points_at(tails, number, left)
     makers, number, left = _makers_at(tails, number, left)
     year, number, _ = _year_at(tails, number, left)
-    copy = None if number == 0 else number + 1
-    return Mark(letters, whole, points, makers, year, copy)
+    # No copy is the first one, and is told by 0.
+    copy = 0 if number == 0 else number + 1
+    return (letters, whole, points, makers, year, copy)
 
 
 def _letters_at(tails, number, left):
@@ -36,11 +42,11 @@ def _number_at(tails, number, left):
     power = 1
     left -= 1
     # All numbers of fewer figures are ahead.
-    while number >= 9 * power * counted(tails.behind_number, left):
-        number -= 9 * power * counted(tails.behind_number, left)
+    while number >= 9 * power * tails.behind_number(left):
+        number -= 9 * power * tails.behind_number(left)
         power *= 10
         left -= 1
-    more, number = divmod(number, counted(tails.behind_number, left))
+    more, number = divmod(number, tails.behind_number(left))
     return (power + more, number, left)
 
 
@@ -58,15 +64,15 @@ def _figures_at(rest, more, number, left):
     while number >= ended:
         number -= ended
         left -= 1
-        inner = counted(more, left)
+        inner = LAST_FIGURES * more[left]
         if number < inner:
             # They don't end behind a 0, so it has fewer marks than the other figures.
             figures += "0"
             ended = 0
         else:
-            ended = counted(rest, left)
+            ended = rest[left]
             figure, number = divmod(number - inner, inner + ended)
-            figures += str(figure + 1)
+            figures += FIGURES[figure + 1]
     return (figures, number, left)
 
 
@@ -74,20 +80,20 @@ def _makers_at(tails, number, left):
     makers = []
     years = tails.behind_makers[-1]
     # Behind three makers no number is left that is as great.
-    while number >= counted(years, left):
+    while number >= years[left]:
         rest = tails.behind_makers[len(makers) + 1]
         more = tails.in_maker[len(makers)]
         left -= 2
-        letter, number = divmod(number - counted(years, left + 2), counted(more, left))
+        letter, number = divmod(number - years[left + 2], LAST_FIGURES * more[left])
         figures, number, left = _figures_at(rest, more, number, left)
         makers.append(SMALL[letter] + figures)
-    return (makers, number, left)
+    return (tuple(makers), number, left)
 
 
 def _year_at(tails, number, left):
     none = counted(tails.behind_year, left)
     if number < none:
-        return (None, number, left)
+        return (0, number, left)
     left -= 5
     more, number = divmod(number - none, counted(tails.behind_year, left))
     return (1000 + more, number, left)

@@ -1,7 +1,7 @@
 """How many marks of at most so many signs are ahead of a mark."""
 
 from spinemarks.signs import SMALL
-from spinemarks.tails import counted
+from spinemarks.tails import LAST_FIGURES, counted
 
 
 def rank(tails, mark, most):
@@ -32,7 +32,8 @@ def _ahead_by_letters(tails, letters, left):
             # The letters may end here.
             ahead += tails.behind_letters(left)
         left -= 1
-        ahead += SMALL.index(letter) * tails.in_letters(at + 1, left)
+        if letter != "a":
+            ahead += SMALL.index(letter) * tails.in_letters(at + 1, left)
     return ahead
 
 
@@ -41,7 +42,7 @@ def _ahead_by_number(tails, number, left):
     power = 1
     while power <= number:
         left -= 1
-        ahead += (min(number, 10 * power) - power) * counted(tails.behind_number, left)
+        ahead += (min(number, 10 * power) - power) * tails.behind_number(left)
         power *= 10
     return ahead
 
@@ -55,15 +56,17 @@ def _ahead_by_figures(rest, more, figures, left):
     """Ahead by their figures, where behind these comes the rest, and within them more."""
     ahead = 0
     ended = 0
-    for sign in figures:
-        figure = int(sign)
+    within = figures[:max(0, left)]
+    for sign in within:
+        # They may end ahead of this figure, but not with a 0.
         ahead += ended
         left -= 1
-        if figure > 0:
-            ahead += figure * counted(more, left) + (figure - 1) * counted(rest, left)
-        # They may end here, ahead of the next figure, but not with a 0.
-        ended = counted(rest, left) if figure > 0 else 0
-    return ahead
+        ended = 0
+        if sign != "0":
+            figure = int(sign)
+            ended = rest[left]
+            ahead += figure * LAST_FIGURES * more[left] + (figure - 1) * ended
+    return ahead + ended if len(within) < len(figures) else ahead
 
 
 def _ahead_by_makers(tails, makers, left):
@@ -73,7 +76,7 @@ def _ahead_by_makers(tails, makers, left):
         more = tails.in_maker[at]
         # No more makers; then a letter that is ahead of this one.
         ahead += counted(tails.behind_makers[-1], left)
-        ahead += SMALL.index(maker[0]) * counted(more, left - 2)
+        ahead += SMALL.index(maker[0]) * LAST_FIGURES * counted(more, left - 2)
         ahead += _ahead_by_figures(rest, more, maker[1:], left - 2)
         left -= 1 + len(maker)
     return ahead

@@ -53,7 +53,7 @@ def written_number(text):
 
 
 def common_signs(one, other):
-    """How many first signs two texts have in common."""
+    """How many first signs two texts have in common, or first things two lists."""
     many = 0
     for first, second in zip(one, other):
         if first != second:

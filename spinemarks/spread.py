@@ -12,7 +12,7 @@ def many_between(many, low=None, high=None, with_low=False, with_high=False):
     """How many marks of at most so many signs lie in the stretch."""
     if not is_bound(many):
         raise NoBound(many)
-    return Stretch(low, high, with_low, with_high).marks_in(Tails(many), many)
+    return Stretch(low, high, with_low, with_high).marks_in(many)
 
 
 def spread(many, low=None, high=None, with_low=False, with_high=False):

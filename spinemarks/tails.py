@@ -1,11 +1,16 @@
 """How many ways there are to go on with a mark behind each of its parts.
 
 Each table is a list: for each number of signs that are left, from 0 on, it has the number of
-ways to go on from there to the end of a mark with at most so many signs. Of letters, which are
-few, just the numbers of ways that are asked for are worked out.
+ways to go on from there to the end of a mark with at most so many signs. Of letters and numbers,
+which are few, just the numbers of ways that are asked for are worked out.
 """
 
 from spinemarks.states import MOST_LETTERS, MOST_MAKERS
+
+# The last one of points, or of a maker's figures, is one of so many: it is no 0.
+LAST_FIGURES = 9
+# Of how many figures a number is, and how many numbers are.
+NUMBERS = ((1, 9), (2, 90), (3, 900), (4, 9000))
 
 
 def counted(table, left):
@@ -14,7 +19,11 @@ def counted(table, left):
 
 
 class Tails:
-    """The tables behind the parts of a mark, and within them, for at most so many signs."""
+    """The tables behind the parts of a mark, and within them, for at most so many signs.
+
+    Within points, and within the figures of a maker, each table is for one or more figures that
+    are still to come, of which the last one is told.
+    """
 
     def __init__(self, most):
         self.most = most
@@ -25,13 +34,18 @@ class Tails:
         self.in_maker = []
         for _ in range(MOST_MAKERS):
             self.in_maker.insert(0, _figures(self.behind_makers[0]))
-            self.behind_makers.insert(0, _with_more(years, 26, self.in_maker[0], 2))
+            self.behind_makers.insert(0, _with_more(years, 26 * LAST_FIGURES, self.in_maker[0], 2))
         self.in_points = _figures(self.behind_makers[0])
-        self.behind_number = _with_more(self.behind_makers[0], 1, self.in_points, 1)
+
+    def behind_number(self, left):
+        """How many ways there are behind the number, where points may follow."""
+        if left < 1:
+            return counted(self.behind_makers[0], left)
+        return self.behind_makers[0][left] + LAST_FIGURES * self.in_points[left - 1]
 
     def behind_letters(self, left):
         """How many ways there are behind the last letter, which a number of one to four figures follows."""
-        return sum([9 * 10 ** more * counted(self.behind_number, left - 1 - more) for more in range(4)])
+        return sum([many * self.behind_number(left - figures) for figures, many in NUMBERS])
 
     def in_letters(self, many, left):
         """How many ways there are behind so many letters, where more may follow."""
@@ -47,26 +61,25 @@ class Tails:
 
 def _copies(most):
     """No copy, or one: a blank, `c.` and the figures of a number from 2 on."""
-    table = []
+    table = [1, 1, 1, 1]
     ways = 0
-    for left in range(most + 1):
-        if left > 3:
-            # As many as numbers from 1 on: 1 itself is no copy, but there may be none.
-            ways = 10 * ways + 9
-        table.append(ways or 1)
-    return table
+    for _ in range(most - 3):
+        # As many as numbers from 1 on: 1 itself is no copy, but there may be none.
+        ways = 10 * ways + 9
+        table.append(ways)
+    return table[:most + 1]
 
 
 def _with_more(ended, choices, more, signs):
     """To go on where a part has ended, or by one of the choices, of so many signs, and then as in more."""
-    return [ways + choices * later for ways, later in zip(ended, [0] * signs + more)]
+    return ended[:signs] + [ways + choices * later for ways, later in zip(ended[signs:], more)]
 
 
 def _figures(rest):
-    """One figure or more, the last one no 0, and then the rest."""
-    table = [0]
+    """One figure or more, the last one told, and then the rest."""
+    table = []
     more = 0
-    for ways in rest[:-1]:
-        more = 9 * ways + 10 * more
+    for ways in rest:
         table.append(more)
+        more = ways + 10 * more
     return table

@@ -82,6 +82,58 @@ class ManyBetween(Case):
             self.refuses(NoBound, thing, many_between, thing, HIGH, LOW)
 
 
+class LongBeginnings(Case):
+    """Marks between two that begin alike are as many, and come so, whatever the beginning is."""
+
+    def check(self, low, high, old, new):
+        """That what is told of two marks is told of them with a new beginning of their texts, too."""
+        long_low, long_high = mark_of(new + low[len(old):]), mark_of(new + high[len(old):])
+        for truths in TRUTHS:
+            for bound in (0, 3, 8, 12, 20):
+                told = many_between(bound, mark_of(low), mark_of(high), *truths)
+                more = bound + len(new) - len(old)
+                self.assertEqual(many_between(more, long_low, long_high, *truths), told, (low, high, new, bound))
+            for many in (1, 3, 20):
+                try:
+                    expected = texts_told(spread(many, mark_of(low), mark_of(high), *truths))
+                except NoRoom:
+                    self.refuses_room(many, long_low, long_high, truths)
+                    continue
+                expected = [new + text[len(old):] for text in expected]
+                self.assertEqual(texts_told(spread(many, long_low, long_high, *truths)), expected, (low, high, new, many))
+
+    def refuses_room(self, many, low, high, truths):
+        with self.assertRaises(NoRoom) as caught:
+            spread(many, low, high, *truths)
+        self.assertIs(caught.exception.found[0], low)
+        self.assertIs(caught.exception.found[1], high)
+
+    def test_heads(self):
+        texts = ("q1", "q1 c.2", "q1 c.9", "q1 c.30", "q1 1000", "q1 1998 c.5", "q1 2999", "q1 b5", "q1 b5 c.2", "q1 b55", "q1 z9 z9")
+        for low, high in itertools.product(texts, repeat=2):
+            self.check(low, high, "q1", "zzz9999.00000000000001")
+
+    def test_points(self):
+        texts = ("q1.5", "q1.5 k5", "q1.501", "q1.55", "q1.55 1998", "q1.59 c.7", "q1.50001")
+        for low, high in itertools.product(texts, repeat=2):
+            self.check(low, high, "q1.", "qaz12.99990")
+            self.check("q1.9 z9", high.replace("q1.5", "q1.97"), "q1.", "q1.00001")
+
+    def test_makers(self):
+        texts = ("q1 k5", "q1 k5 c.3", "q1 k5 1998", "q1 k55", "q1 k509", "q1 k5 b7", "q1 k5 b7 2999", "q1 k5 b77 x1", "q1 k5 c1 c1")
+        for low, high in itertools.product(texts, repeat=2):
+            self.check(low, high, "q1 k", "qa76.99 w00001")
+            self.check(low, high, "q1", "b55")
+        for low, high in itertools.product(("q1 k5", "q1 k5 b5", "q1 k5 b51 1998", "q1 k5 b59 c.2", "q1 k5 b5 b5"), repeat=2):
+            self.check(low, high, "q1 k5", "qa76.99 w000012345")
+
+    def test_years(self):
+        texts = ("q1 k5 1998", "q1 k5 1998 c.2", "q1 k5 1998 c.25", "q1 k5 1998 c.105")
+        for low, high in itertools.product(texts, repeat=2):
+            self.check(low, high, "q1 k5 1998", "qa76.99 w000012345 z9 2000")
+            self.check(low, high.replace("1998", "1999"), "q1 k5", "qa76.99 w000012345 z9 z0101")
+
+
 class Spread(Case):
     def test_against_all_marks_of_few_signs(self):
         near = (None, "a1", "a1 c.2", "q1", "q1 c.2", "b7", "q2", "q9", "q76", "qa1", "r1", "zz9")
