@@ -3,7 +3,7 @@
 from spinemarks.errors import Crossing, NoClass, NoClasses, NoName, NotThere, Twice, Upside
 from spinemarks.heads import behind_head, head_of, least_head
 from spinemarks.signs import is_name
-from spinemarks.spans import common_span, is_empty, is_in, is_within
+from spinemarks.spans import is_empty, is_in, is_within, span_of
 
 MOST_CLASSES = 12
 
@@ -14,16 +14,20 @@ class Scheme:
     def __init__(self, rows):
         if not isinstance(rows, (list, tuple)) or len(rows) > MOST_CLASSES:
             raise NoClasses(rows)
-        self._spans = {}
+        self._rows = {}
+        self._marks = {}
+        spans = {}
         for row in rows:
-            name, span = _read_class(row, self._spans)
-            self._spans[name] = span
-        _check_crossing(self._spans)
-        self._rows = {row[0]: row for row in rows}
-        self._order = _in_order(self._spans)
+            name, marks = _read_class(row, self._rows)
+            self._rows[name] = row
+            self._marks[name] = marks
+            spans[name] = span_of(*marks)
+        _check_crossing(spans)
+        self._spans = _in_order(spans)
+        self._around = _around(self._spans)
 
     def __eq__(self, other):
-        return isinstance(other, Scheme) and self._spans == other._spans
+        return isinstance(other, Scheme) and self._marks == other._marks
 
     def __len__(self):
         return len(self._rows)
@@ -38,9 +42,9 @@ class Scheme:
 
     def span(self, name):
         """The first mark that the class holds, and the first one behind all that it holds, or None."""
-        if not is_name(name) or name not in self._spans:
+        if not is_name(name) or name not in self._marks:
             raise NotThere(name)
-        return self._spans[name]
+        return self._marks[name]
 
     def plain(self, name):
         """The first head of the class, and as last head that of fewest signs that will do, as texts."""
@@ -50,11 +54,12 @@ class Scheme:
 
     def holds(self, name, mark):
         """Whether the class holds the mark."""
-        return is_in(mark, self.span(name))
+        return is_in(mark, span_of(*self.span(name)))
 
     def chain(self, mark):
         """The names of all classes that hold the mark, the widest first."""
-        return [name for name in self._order if is_in(mark, self._spans[name])]
+        key = mark.key()
+        return [name for name, (first, behind) in self._spans.items() if first <= key < behind]
 
     def narrowest(self, mark):
         """The name of the narrowest class that holds the mark, or None."""
@@ -63,31 +68,31 @@ class Scheme:
 
     def around(self, name):
         """The names of all other classes that hold all marks of the class, the widest first."""
-        span = self.span(name)
-        return [other for other in self._order if other != name and is_within(span, self._spans[other])]
+        self.span(name)
+        return list(self._around[name])
 
     def inside(self, name=None):
         """The names of the classes straight within the class, or of those that lie in no other one."""
-        narrowest = []
+        narrowest = ()
         if name is not None:
             self.span(name)
-            narrowest = [name]
-        return [other for other in self._order if self.around(other)[-1:] == narrowest]
+            narrowest = (name,)
+        return [other for other, names in self._around.items() if names[-1:] == narrowest]
 
 
-def _read_class(row, spans):
-    """The name and the span of a class, which may not have one of these names."""
+def _read_class(row, rows):
+    """The name of a class, which may not have one of these names, and the marks that bound it."""
     if not isinstance(row, tuple) or len(row) != 3:
         raise NoClass(row)
     name, first, last = row
     if not is_name(name):
         raise NoName(name)
-    if name in spans:
+    if name in rows:
         raise Twice(name)
-    span = (head_of(first), behind_head(last))
-    if is_empty(span):
+    marks = (head_of(first), behind_head(last))
+    if is_empty(span_of(*marks)):
         raise Upside(name)
-    return (name, span)
+    return (name, marks)
 
 
 def _check_crossing(spans):
@@ -100,15 +105,25 @@ def _check_crossing(spans):
 
 def _cross(one, other):
     """Whether two spans have marks in common, and neither has all marks of the other one and more."""
-    if is_empty(common_span(one, other)):
+    if one[1] <= other[0] or other[1] <= one[0]:
         return False
     return is_within(one, other) == is_within(other, one)
 
 
 def _in_order(spans):
-    """The names by the first marks, and of classes with the same first mark the widest first."""
-    places = []
+    """The spans by their first marks, and of those with the same first mark the widest first."""
+    widest = sorted([(span[1], name) for name, span in spans.items()], reverse=True)
+    places = sorted([(spans[name][0], place, name) for place, (_, name) in enumerate(widest)])
+    return {name: spans[name] for _, _, name in places}
+
+
+def _around(spans):
+    """By each name the names of the classes around it, the widest first; the spans are in order."""
+    around = {}
+    chain = ()
     for name, span in spans.items():
-        around = [other for other in spans.values() if is_within(span, other)]
-        places.append((span[0].key(), len(around), name))
-    return [name for _, _, name in sorted(places)]
+        while chain and not is_within(span, spans[chain[-1]]):
+            chain = chain[:-1]
+        around[name] = chain
+        chain = (*chain, name)
+    return around

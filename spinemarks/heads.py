@@ -5,13 +5,16 @@ from spinemarks.marks import Mark
 from spinemarks.reading import mark_and_signs
 from spinemarks.signs import SMALL
 
+# A head's makers, year and copy.
+NO_MORE = ((), None, None)
+
 
 def head_of(text):
     """The head whose text it is, a mark."""
     if not isinstance(text, str):
         raise NoHead(text)
     mark, _ = mark_and_signs(text)
-    if mark is None or mark != mark.head():
+    if mark is None or mark.parts()[3:] != NO_MORE:
         raise NoHead(text)
     return mark
 

@@ -15,7 +15,7 @@ from spinemarks.rowtexts import rows_of
 from spinemarks.settled import settles
 from spinemarks.short import Shorts
 from spinemarks.slips import could_be
-from spinemarks.spans import is_in
+from spinemarks.spans import is_in, span_of
 from spinemarks.spread import next_of, spread
 from spinemarks.wrong import row_slips
 
@@ -59,7 +59,7 @@ def _chain(_, house, mark):
 
 
 def _holds(_, house, name):
-    span = house[2].span(name)
+    span = span_of(*house[2].span(name))
     return _texts([mark for mark in _marks(house) if is_in(mark, span)])
 
 
