@@ -19,6 +19,10 @@ from spinemarks.spans import is_in, span_of
 from spinemarks.spread import next_of, spread
 from spinemarks.wrong import row_slips
 
+# The places of what a house is made of.
+SHELVES = 0
+RULE = 1
+SCHEME = 2
 ORDERS = {-1: "ahead", 0: "same", 1: "behind"}
 
 
@@ -35,42 +39,42 @@ def _books(_, house):
 
 
 def _ruled(_, house):
-    return _texts(house[1].in_order(_marks(house)))
+    return _texts(house[RULE].in_order(_marks(house)))
 
 
 def _border(_, house, number):
-    return _row_or_none(border(house[0], number))
+    return _row_or_none(border(house[SHELVES], number))
 
 
 def _sought(_, house, mark):
-    return _row_or_none(sought(house[0], mark))
+    return _row_or_none(sought(house[SHELVES], mark))
 
 
 def _where(_, house, mark):
-    return [str(house[0].shelf_with(mark))]
+    return [str(house[SHELVES].shelf_with(mark))]
 
 
 def _order(_, house, marks):
-    return [ORDERS[house[1].order(*marks)]]
+    return [ORDERS[house[RULE].order(*marks)]]
 
 
 def _chain(_, house, mark):
-    return house[2].chain(mark)
+    return house[SCHEME].chain(mark)
 
 
 def _holds(_, house, name):
-    span = span_of(*house[2].span(name))
+    span = span_of(*house[SCHEME].span(name))
     return _texts([mark for mark in _marks(house) if is_in(mark, span)])
 
 
 def _apart(houses, house, name):
     other = _house_by(houses, name)
-    return _row_or_none(classed_apart(house[2], other[2]))
+    return _row_or_none(classed_apart(house[SCHEME], other[SCHEME]))
 
 
 def _parted(houses, house, name):
     other = _house_by(houses, name)
-    marks = parted(house[1], other[1])
+    marks = parted(house[RULE], other[RULE])
     return [] if marks is None else _texts(marks)
 
 
@@ -113,7 +117,7 @@ def _wrong(kind, texts):
 
 def _marks(house):
     """All marks of the house, as they stand."""
-    return [mark for row in house[0].rows() for mark in row]
+    return [mark for row in house[SHELVES].rows() for mark in row]
 
 
 def _house_by(houses, name):
