@@ -85,7 +85,8 @@ def _sign(steps, part, pair):
 
 def _mark_with(pairs, at):
     """The mark with the values of the pairs at this place, and the least values else."""
-    return Mark(*[pairs[part][at] if part in pairs else PAIRS[part][0][1] for part in PARTS])
+    values = [pairs[part][at] if part in pairs else PAIRS[part][0][1] for part in PARTS]
+    return Mark(*values)
 
 
 def _signs(pairs):
