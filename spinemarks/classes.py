@@ -21,7 +21,7 @@ class Scheme:
             name, marks = _read_class(row, self._rows)
             self._rows[name] = row
             self._marks[name] = marks
-            spans[name] = span_of(*marks)
+            spans[name] = span_of(marks)
         _check_crossing(spans)
         self._spans = _in_order(spans)
         self._around = _around(self._spans)
@@ -54,7 +54,7 @@ class Scheme:
 
     def holds(self, name, mark):
         """Whether the class holds the mark."""
-        return is_in(mark, span_of(*self.span(name)))
+        return is_in(mark, span_of(self.span(name)))
 
     def chain(self, mark):
         """The names of all classes that hold the mark, the widest first."""
@@ -90,7 +90,7 @@ def _read_class(row, rows):
     if name in rows:
         raise Twice(name)
     marks = (head_of(first), behind_head(last))
-    if is_empty(span_of(*marks)):
+    if is_empty(span_of(marks)):
         raise Upside(name)
     return (name, marks)
 

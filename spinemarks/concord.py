@@ -7,8 +7,8 @@ from spinemarks.spans import END, common_span, is_empty, is_within, marks_of, sp
 
 def against(one, name, other, second):
     """The shortest marks that the first class alone holds, that both hold, and that the second alone holds."""
-    first = span_of(*one.span(name))
-    last = span_of(*other.span(second))
+    first = span_of(one.span(name))
+    last = span_of(other.span(second))
     return (
         _shortest_in(spans_without(first, last)),
         _shortest_in([common_span(first, last)]),
@@ -18,8 +18,8 @@ def against(one, name, other, second):
 
 def related(one, name, other, second):
     """How the first class lies to the second, as a word."""
-    first = span_of(*one.span(name))
-    last = span_of(*other.span(second))
+    first = span_of(one.span(name))
+    last = span_of(other.span(second))
     if first == last:
         return "same"
     if is_within(first, last):

@@ -63,7 +63,7 @@ def _chain(_, house, mark):
 
 
 def _holds(_, house, name):
-    span = span_of(*house[SCHEME].span(name))
+    span = span_of(house[SCHEME].span(name))
     return _texts([mark for mark in _marks(house) if is_in(mark, span)])
 
 

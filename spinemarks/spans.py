@@ -6,8 +6,9 @@ from spinemarks.marks import mark_of_key
 END = ("zzzz",)
 
 
-def span_of(first, behind):
-    """The span from the first mark on, up to the mark behind all of it, or None."""
+def span_of(marks):
+    """The span of two marks: from the first one on, up to the one behind all of it, or None."""
+    first, behind = marks
     return (first.key(), END if behind is None else behind.key())
 
 

@@ -50,6 +50,20 @@ def imported(tree):
     return [name.name for node in tree.body if isinstance(node, ast.ImportFrom) for name in node.names]
 
 
+def is_named(thing):
+    """Whether it is a name, or an attribute off a name."""
+    return isinstance(thing.value if isinstance(thing, ast.Attribute) else thing, ast.Name)
+
+
+def is_plain(thing):
+    """Whether it is named, a literal, or a list, tuple or dict of such."""
+    if isinstance(thing, (ast.List, ast.Tuple)):
+        return all(is_plain(part) for part in thing.elts)
+    if isinstance(thing, ast.Dict):
+        return all(part is not None and is_plain(part) for part in thing.keys + thing.values)
+    return is_named(thing) or isinstance(thing, ast.Constant)
+
+
 class Language(unittest.TestCase):
     def test_the_folder_has_nothing_else(self):
         names = [path.name for path in FOLDER.iterdir() if path.name != "__pycache__"]
@@ -112,6 +126,15 @@ class Language(unittest.TestCase):
             for node in ast.walk(tree):
                 if isinstance(node, ast.FunctionDef) and node.name.startswith("__"):
                     self.assertIn(node.name, METHODS, name)
+
+    def test_stars_in_calls_stand_before_plain_things(self):
+        for name, tree in trees():
+            for node in ast.walk(tree):
+                if isinstance(node, ast.Call):
+                    stars = [thing.value for thing in node.args if isinstance(thing, ast.Starred)]
+                    pairs = [keyword.value for keyword in node.keywords if keyword.arg is None]
+                    self.assertTrue(all(is_plain(thing) for thing in stars), (name, node.lineno))
+                    self.assertTrue(all(is_named(thing) for thing in pairs), (name, node.lineno))
 
 
 if __name__ == "__main__":
